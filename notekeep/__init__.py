@@ -1,0 +1,1 @@
+"""Plans over fractions, notes on what holds in them, and papers that show it."""
