@@ -31,6 +31,8 @@ METHODS = set("""
     items join keys ljust lower lstrip partition pop remove replace reverse rfind rjust rpartition rsplit rstrip
     setdefault split splitlines startswith strip update upper values zfill bit_length
 """.split())
+WALKED = {"zip", "enumerate", "reversed", "range", "items", "keys", "values"}
+WALKING = {"list", "tuple", "dict", "sorted", "sum", "any", "all", "enumerate", "zip", "min", "max", "join"}
 SPECIAL_METHODS = {"__init__", "__eq__", "__repr__", "__str__", "__len__"}
 NAMES_OUT = set("""
     register mro elements open input version_info with_traceback add_note attrgetter breakpoint builtins compile
@@ -100,6 +102,13 @@ class LanguageTest(unittest.TestCase):
             for node in ast.walk(tree):
                 if isinstance(node, kinds):
                     yield name, node
+
+    def each_pair(self, kind):
+        for name, tree in self.trees.items():
+            for above in ast.walk(tree):
+                for node in ast.iter_child_nodes(above):
+                    if isinstance(node, kind):
+                        yield name, node, above
 
     def where(self, name, node):
         return f"{name}.py, line {getattr(node, 'lineno', '?')}"
@@ -222,11 +231,43 @@ class LanguageTest(unittest.TestCase):
             self.assertRegex(text, r"^[ -~\n]*$", name)
             self.assertIsNone(WORDS_OUT.search(text), name)
 
+    def test_l18_l26_classes_and_their_names(self):
+        classes = {node.name for name, node in self.each_node(ast.ClassDef)}
+        for name, node, above in self.each_pair(ast.Name):
+            if node.id in classes:
+                called = isinstance(above, ast.Call) and (above.func is node or above.func.id == "isinstance")
+                self.assertTrue(called or isinstance(above, (ast.ClassDef, ast.ExceptHandler)), self.where(name, node))
+        methods = {inner.name for name, node in self.each_node(ast.ClassDef) for inner in node.body if hasattr(inner, "name")}
+        values = {node.attr for name, node in self.each_node(ast.Attribute) if isinstance(node.ctx, ast.Store)}
+        self.assertEqual(methods & values, set())
+        pythons_own = {name for kind in (str, int, list, dict, set, bytes) for name in dir(kind)}
+        self.assertEqual((methods - SPECIAL_METHODS | values) & pythons_own, set())
+
     def test_l20_is(self):
         for name, node in self.each_node(ast.Compare):
             for operator, side in zip(node.ops, node.comparators):
                 if isinstance(operator, (ast.Is, ast.IsNot)):
                     self.assertIn(getattr(side, "value", ...), (None, True, False), self.where(name, node))
+
+    def test_l23_walked_at_once(self):
+        for name, node, above in self.each_pair(ast.Call):
+            called = getattr(node.func, "id", None) or getattr(node.func, "attr", None)
+            if called not in WALKED:
+                continue
+            place = self.where(name, node)
+            if isinstance(above, ast.Call):
+                self.assertIs(above.args[0], node, place)
+                by = getattr(above.func, "id", "join" if isinstance(above.func.value, ast.Constant) else None)
+                self.assertIn(by, WALKING, place)
+            else:
+                self.assertIsInstance(above, (ast.For, ast.comprehension), place)
+                self.assertIs(above.iter, node, place)
+
+    def test_l24_sets(self):
+        for name, node, above in self.each_pair(ast.Call):
+            if getattr(node.func, "id", None) == "set":
+                straight = isinstance(above, ast.Call) and above.func.id in ("sorted", "len")
+                self.assertTrue(straight or isinstance(above, (ast.Compare, ast.BinOp)), self.where(name, node))
 
     def test_l25_methods(self):
         methods = set(METHODS)

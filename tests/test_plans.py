@@ -7,38 +7,7 @@ import unittest
 from notekeep.errors import KeepError, NoMeasure, NoName, TooGreat
 from notekeep.plans import loops_of, must_plan, places_of, statement_at
 
-
-def total(*names):
-    return (tuple((name, 1) for name in names), 0, 1)
-
-
-def row(*names):
-    return ("least", tuple((name, 1) for name in names), 0)
-
-
-def put(name="x", *names):
-    return ("set", name, total(*names))
-
-
-def note(*rows):
-    return ("note", rows)
-
-
-def choose(first=(), second=()):
-    return ("choose", tuple(first), tuple(second))
-
-
-def branch(first=(), second=(), asked=None):
-    return ("if", asked or row("x"), tuple(first), tuple(second))
-
-
-def loop(block=(), measure=None, asked=None, notes=()):
-    return ("while", asked or row("x"), tuple(notes), measure, tuple(block))
-
-
-def plan_of(*block, names=("x", "y", "z"), rows=()):
-    return (names, rows, block)
-
+from kit import branch, choose, loop, note, plan_of, put, row, total
 
 ANY = ("any", "x")
 SET = put()
