@@ -37,6 +37,27 @@ def loops_of(plan):
     return [place for place, statement in laid_out(plan[2]) if statement[0] == "while"]
 
 
+# The block that a statement at the place lies in; a place just behind its last statement will do, too.
+def block_around(plan, place):
+    if len(place) == 1:
+        return plan[2]
+    return blocks_of(statement_at(plan, place[:-2]))[place[-2]]
+
+
+# The plan with this statement instead of the one at the place, and nothing else changed.
+def exchanged(plan, place, statement):
+    block = with_part(block_around(plan, place), place[-1], statement)
+    if len(place) == 1:
+        return (plan[0], plan[1], block)
+    above = statement_at(plan, place[:-2])
+    number = len(above) - len(blocks_of(above)) + place[-2]
+    return exchanged(plan, place[:-2], with_part(above, number, block))
+
+
+def with_part(parts, number, part):
+    return parts[:number] + (part,) + parts[number + 1:]
+
+
 def blocks_of(statement):
     word = statement[0]
     if word == "choose":
@@ -106,9 +127,12 @@ def must_be_among(names, found):
 
 
 def must_bear_measure(place, statement):
-    if statement[0] != "while" or statement[3] is None:
-        return
-    inner = [pair[1] for pair in laid_out(statement[4])]
+    if statement[0] == "while" and statement[3] is not None:
+        must_have_no_loop(place, statement)
+
+
+def must_have_no_loop(place, loop):
+    inner = [pair[1] for pair in laid_out(loop[4])]
     if how_many(inner, ("while",)) > 0:
         raise NoMeasure(place)
 

@@ -1,7 +1,13 @@
-"""What several tests draw on: plans put together shortly, many plans, and a run reckoned another way."""
+"""What several tests draw on: plans put together shortly, many plans, and runs and duties reckoned another way."""
 
 import random
+from collections import Counter
 from fractions import Fraction
+from math import lcm
+
+from notekeep.errors import NoMeasure, NoName, TooGreat
+from notekeep.solving import met
+from notekeep.texts import read
 
 
 def total(*names):
@@ -66,6 +72,50 @@ def point(**values):
     return {name: fraction(value) for name, value in values.items()}
 
 
+def lines(*some):
+    return read("\n".join(some))
+
+
+def names_of(rows):
+    return {name for row in rows for name, weight in row[1]}
+
+
+def is_met(rows, point):
+    for word, terms, bound in rows:
+        added = sum((weight * Fraction(*point[name]) for name, weight in terms), Fraction(0))
+        if not (added >= bound if word == "least" else added > bound):
+            return False
+    return True
+
+
+def are_weights(rows, weights):
+    if len(weights) != len(rows) or any(weight < 0 for weight in weights):
+        return False
+    left = Counter()
+    bound = 0
+    for row, weight in zip(rows, weights):
+        bound += weight * row[2]
+        for name, of_name in row[1]:
+            left[name] += weight * of_name
+    strict = any(row[0] == "more" and weight > 0 for row, weight in zip(rows, weights))
+    return not any(left.values()) and (bound > 0 or bound == 0 and strict)
+
+
+# One plan for each refusal of a plan, with the error's class and its fields.
+REFUSED = (
+    (plan_of(put("x"), names=("u", "x", "y", "z")), TooGreat, {"number": 4, "most": 3}),
+    (plan_of(*[put("x")] * 26), TooGreat, {"number": 26, "most": 24}),
+    (plan_of(choose([choose([loop([loop([note(row("q"))])])])])), TooGreat, {"number": 5, "most": 4}),
+    (plan_of(choose([branch()]), choose()), TooGreat, {"number": 3, "most": 2}),
+    (plan_of(loop([loop([loop()])])), TooGreat, {"number": 3, "most": 2}),
+    (plan_of(("any", "x"), ("any", "x")), TooGreat, {"number": 2, "most": 1}),
+    (plan_of(note(row("x")), note(row("y"), row("z"))), TooGreat, {"number": 3, "most": 2}),
+    (plan_of(rows=(row("x"), row("q"))), NoName, {"name": "q"}),
+    (plan_of(loop(notes=(row("x"), row("u", "x")))), NoName, {"name": "u"}),
+    (plan_of(put("x"), loop([choose([], [loop()])], (total("x"), 1))), NoMeasure, {"place": (1,)}),
+)
+
+
 class Stopped(Exception):
     pass
 
@@ -80,6 +130,9 @@ class ByHand:
         self.givens = iter(givens)
         self.deeds = 0
         self.passed = []
+        # For each time that a loop is come to from ahead: its place, its measure's worth and fall there
+        # (or None), whether its row was so there, and how often its block was then begun.
+        self.rounds = []
 
     def tell(self):
         place = ()
@@ -143,6 +196,9 @@ class ByHand:
 
     def loop(self, place, asked, notes, measure, block):
         ahead = None
+        measured = None if measure is None else (self.worth(measure[0]), measure[1])
+        rounds = [place, measured, self.so(asked), 0]
+        self.rounds.append(rounds)
         while True:
             self.begin(place)
             good = all(self.so(one) for one in notes)
@@ -154,11 +210,185 @@ class ByHand:
             self.look(place, good)
             if not self.so(asked):
                 return
+            rounds[-1] += 1
             self.block(place + (0,), block)
 
 
 def told_by_hand(plan, start, turns, givens):
     return ByHand(plan, start, turns, givens).tell()
+
+
+def rounds_by_hand(plan, start, turns, givens):
+    journey = ByHand(plan, start, turns, givens)
+    journey.tell()
+    return journey.rounds
+
+
+def chain_of(place, block, after):
+    for index in reversed(range(len(block))):
+        after = (place + (index,), block[index], after)
+    return after
+
+
+class DutiesByHand:
+    """Duties, told by Python's own fractions. What is still to be done on a stretch is a chain, None at its end or
+    a tuple (place, statement, the chain behind it); a name's value is a dict from letters to fractions, its whole at
+    the empty text."""
+
+    def __init__(self, plan):
+        self.plan = plan
+        self.found = []
+
+    def tell(self):
+        names, rows, block = self.plan
+        whole = chain_of((), block, None)
+        self.stretch(("start",), rows, None, whole)
+        for chain in self.loops(whole, None):
+            place, (word, asked, notes, measure, inner), after = chain
+            self.stretch(("round", place), notes + (asked,), measure, chain_of(place + (0,), inner, chain))
+            self.stretch(("behind", place), notes + (self.against(asked),), None, after)
+        return self.found
+
+    def loops(self, chain, end):
+        while chain is not end:
+            place, statement, after = chain
+            if statement[0] == "while":
+                yield chain
+                yield from self.loops(chain_of(place + (0,), statement[4], chain), chain)
+            elif statement[0] in ("choose", "if"):
+                for turn in (0, 1):
+                    yield from self.loops(chain_of(place + (turn,), statement[turn - 2], after), after)
+            chain = after
+
+    def against(self, asked):
+        word, some, bound = asked
+        turned = tuple((name, -weight) for name, weight in some)
+        return ({"least": "more", "more": "least"}[word], turned, -bound)
+
+    def stretch(self, beginning, rows, measure, chain):
+        self.beginning = beginning
+        own = {name: {name: Fraction(1)} for name in self.plan[0]}
+        self.ahead = None
+        if measure is not None:
+            self.ahead = self.value(measure[0], own)
+            self.found.append((beginning, (), beginning[1], "worth", rows, self.row("least", self.ahead, 0)))
+        self.go(chain, (), rows, own)
+
+    def value(self, one, values):
+        some, whole, by = one
+        value = Counter({"": Fraction(whole)})
+        for name, weight in some:
+            for letter, share in values[name].items():
+                value[letter] += weight * share
+        return {letter: share / by for letter, share in value.items()}
+
+    def row(self, word, value, bound):
+        weights = {letter: weight for letter, weight in value.items() if letter and weight}
+        right = Fraction(bound) - value.get("", 0)
+        often = lcm(right.denominator, *[weight.denominator for weight in weights.values()])
+        return (word, tuple(sorted((letter, int(weight * often)) for letter, weight in weights.items())), int(right * often))
+
+    def put_in(self, one, values):
+        return self.row(one[0], self.value((one[1], 0, 1), values), one[2])
+
+    def go(self, chain, way, rows, values):
+        if chain is None:
+            return
+        place, (word, *rest), after = chain
+        if word == "set":
+            self.go(after, way, rows, {**values, rest[0]: self.value(rest[1], values)})
+        elif word == "any":
+            self.go(after, way, rows, {**values, rest[0]: {"A": Fraction(1)}})
+        elif word == "note":
+            self.must_follow(place, way, rows, values, rest[0])
+            self.go(after, way, rows + tuple(self.put_in(one, values) for one in rest[0]), values)
+        elif word == "while":
+            self.must_follow(place, way, rows, values, rest[1])
+            if self.beginning == ("round", place) and self.ahead is not None:
+                now = self.value(rest[2][0], values)
+                fallen = {one: self.ahead.get(one, 0) - now.get(one, 0) for one in {**self.ahead, **now}}
+                self.found.append((self.beginning, way, place, "fall", rows, self.row("least", fallen, rest[2][1])))
+        else:
+            known = ((), ()) if word == "choose" else ((rest[0],), (self.against(rest[0]),))
+            for turn in (0, 1):
+                learnt = tuple(self.put_in(one, values) for one in known[turn])
+                self.go(chain_of(place + (turn,), rest[turn - 2], after), way + (turn,), rows + learnt, values)
+
+    def must_follow(self, place, way, rows, values, some):
+        for number, one in enumerate(some):
+            self.found.append((self.beginning, way, place, number, rows, self.put_in(one, values)))
+
+
+def duties_by_hand(plan):
+    return DutiesByHand(plan).tell()
+
+
+def rows_against(duty):
+    return duty[4] + (DutiesByHand(None).against(duty[5]),)
+
+
+# What is told of the rows is looked at here: a point or weights, there are never both.
+def is_open(duty):
+    rows = rows_against(duty)
+    word, answer = met(rows)
+    if not (is_met(rows, answer) if word == "point" else are_weights(rows, answer)):
+        raise AssertionError((duty, word, answer))
+    return word == "point"
+
+
+# The plan with something else at this index of the loop at the place.
+def with_loop_part(plan, place, index, part):
+    def changed(block, place):
+        statement = list(block[place[0]])
+        if len(place) == 1:
+            statement[index] = part
+        else:
+            inner = -1 if statement[0] == "while" else place[1] - 2
+            statement[inner] = changed(statement[inner], place[2:])
+        return block[:place[0]] + (tuple(statement),) + block[place[0] + 1:]
+
+    return (plan[0], plan[1], changed(plan[2], place))
+
+
+def with_notes(plan, place, notes):
+    return with_loop_part(plan, place, 2, notes)
+
+
+def with_measure(plan, place, measure):
+    return with_loop_part(plan, place, 3, measure)
+
+
+# Plans of which every run keeps all.
+KEPT = (
+    lines("plan x"),
+    lines("plan x y", "while 1 x > 0", "  any x", "  set y = 1 x", "end"),
+    lines("plan x", "given 1 x > 0 and -1 x > 0", "note 0 > 0"),
+    lines("plan x", "note 0 >= 0 and 0 > -1", "while 0 > 0", "  keep 0 >= -2", "  fall -1 by 5", "end"),
+    lines(
+        "plan x", "given 1 x >= 0", "while 1 x > 0", "  keep 1 x > -1", "  fall 1 x by 1", "  set x = 1 x - 1", "end",
+        "note -1 x >= 0 and 1 x > -1",
+    ),
+    lines(
+        "plan x y", "given 1 x >= 0", "set y = 0", "while 1 x >= 1", "  keep 1 x >= 0 and 1 y >= 0", "  set x = 1 x - 1",
+        "  while 1 y > 5", "    keep 1 x >= 0 and 1 y >= 0", "    fall 1 y by 2", "    set y = 1 y - 2", "  end",
+        "  set y = 1 y + 4", "end", "note 1 x + 1 y >= 0",
+    ),
+    lines(
+        "plan x y", "any x", "if 1 x > 0", "  set y = 1 x over 2", "else", "  set y = -1 x + 1", "end", "note 1 y > 0",
+        "while 1 x - 1 y >= 1", "  keep 1 y > 0", "  fall 1 x - 1 y over 2 by 1", "  choose", "    set x = 1 x - 2", "  or",
+        "    set y = 1 y + 2", "  end", "end", "note -1 x + 1 y > -1",
+    ),
+    lines(
+        "plan a b c", "given 1 a - 1 b >= 3 and 1 c > 0", "choose", "  while 1 a + 1 b >= 6", "    keep 1 a - 1 b >= 3 and 1 c > 0",
+        "    fall 1 a + 1 b - 4 over 3 by 1", "    set b = 1 b - 3 c - 2", "    set b = 1 b + 3 c - 1", "  end", "or",
+        "  set c = 2 c over 7", "end", "while 1 c >= 8", "  keep 1 a - 1 b >= 3 and 1 c > 0",
+        "  fall 1 c by 3", "  set c = 1 c + 1 over 2", "end", "note 1 a - 1 b + 1 c > 3",
+    ),
+    lines(
+        "plan x y z", "if 1 x >= 1", "  set y = 1 x", "else", "  set y = 1", "end", "set z = 10 y",
+        "while -1 y + 1 z > 0", "  keep 1 y >= 1", "  fall -1 y + 1 z by 1", "  set z = -1 y + 1 z", "end", "note 1 y - 1 z >= 0",
+    ),
+)
 
 
 class Maker:

@@ -5,41 +5,15 @@ import itertools
 import random
 import unittest
 from collections import Counter
-from fractions import Fraction
 from math import gcd
 
 from notekeep.solving import met, shows
 
-from kit import least, more
+from kit import are_weights, is_met, least, more, names_of
 
 # So long that no two of them are easily put in lowest terms.
 LONG = 10 ** 9999 + 19
 OTHER_LONG = 3 ** 20950 + 4
-
-
-def names_of(rows):
-    return {name for row in rows for name, weight in row[1]}
-
-
-def is_met(rows, point):
-    for word, terms, bound in rows:
-        added = sum((weight * Fraction(*point[name]) for name, weight in terms), Fraction(0))
-        if not (added >= bound if word == "least" else added > bound):
-            return False
-    return True
-
-
-def are_weights(rows, weights):
-    if len(weights) != len(rows) or any(weight < 0 for weight in weights):
-        return False
-    left = Counter()
-    bound = 0
-    for row, weight in zip(rows, weights):
-        bound += weight * row[2]
-        for name, of_name in row[1]:
-            left[name] += weight * of_name
-    strict = any(row[0] == "more" and weight > 0 for row, weight in zip(rows, weights))
-    return not any(left.values()) and (bound > 0 or bound == 0 and strict)
 
 
 class Answers(unittest.TestCase):
